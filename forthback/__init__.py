@@ -1,0 +1,1 @@
+"""Forthback: bins that pass on, all at once, forth or back."""

@@ -1,0 +1,3 @@
+"""The constants that the document writes in capitals."""
+
+MOST_LANE = 400
