@@ -1,5 +1,4 @@
 import copy
-import itertools
 import unittest
 
 from forthback.lines import (
@@ -14,19 +13,11 @@ from forthback.lines import (
     turned_line,
     turned_widths,
 )
+from helpers import BILLION, DEEP_LIST, DEEP_TUPLE, GREAT_RING, GREAT_ROW, LONG, ONE, PAIR, ROUND, TWO
+from helpers import Told, as_lists, exchanged, steads
 
-BILLION = 10 ** 9
-ONE = ("row", (3,))
-TWO = ("row", (3, 5))
-LONG = ("row", (1, 2, 3, 4, 5))
-PAIR = ("ring", (3, 5))
-ROUND = ("ring", (1, 2, 3, 4, 5))
-GREAT_ROW = ("row", (BILLION,) * 24)
-GREAT_RING = ("ring", (BILLION,) * 24)
 LINES = (ONE, TWO, LONG, PAIR, ("ring", (7, 1, 7)), ROUND, GREAT_ROW, GREAT_RING)
 
-DEEP_LIST = [[[[[[[[1]]]]]]]]
-DEEP_TUPLE = ((((((((1,),),),),),),),)
 ODD_THINGS = (
     None, True, False, 0, 1, 2, -1, 10 ** 30, "", "row", "ring", "ro", "rowing", [], (), [[]], ((),), [()], ([],),
     (None,), [None], (None, None), ("row",), ("ring",), ("row", None), (None, (1,)), ("row", 1), ("row", "1"),
@@ -34,32 +25,6 @@ ODD_THINGS = (
     ("row", (None,)), ("row", ([],)), ("ring", (1, "2")), ("ring", (1, None)), ("ring", (1, (2,))),
     DEEP_LIST, DEEP_TUPLE, ("row", DEEP_TUPLE), (DEEP_LIST, (1,)), ("row", (DEEP_LIST,)),
 )
-
-
-def as_lists(value):
-    return [as_lists(one) for one in value] if isinstance(value, tuple) else value
-
-
-def with_lists(value):
-    """Each way to put lists in the place of some of the tuples, and at least one."""
-    return [way for way in ways(value) if kinds(way) != kinds(value)]
-
-
-def ways(value):
-    if not isinstance(value, tuple):
-        return [value]
-    parts = list(itertools.product(*[ways(one) for one in value]))
-    return [tuple(part) for part in parts] + [list(part) for part in parts]
-
-
-def kinds(value):
-    if not isinstance(value, (list, tuple)):
-        return type(value)
-    return (type(value), [kinds(one) for one in value])
-
-
-def exchanged(values, at, value):
-    return values[:at] + (value,) + values[at + 1:]
 
 
 def numbered_standing(line):
@@ -79,20 +44,6 @@ def some_widths(line):
         (BILLION,) * count,
         tuple(None if gate % 2 else 10 + gate for gate in range(count)),
     ]
-
-
-class Told(unittest.TestCase):
-    """How what is told is compared: 1 == True and [1] != (1,) are both too weak."""
-
-    def told(self, got, wanted):
-        self.assertEqual(got, wanted)
-        self.assertEqual(kinds(got), kinds(wanted))
-
-    def yes(self, got):
-        self.assertIs(got, True)
-
-    def no(self, got, words=None):
-        self.assertIs(got, False, words)
 
 
 class IsLine(Told):
@@ -136,7 +87,7 @@ class IsLine(Told):
 
     def test_lists_are_no_tuples(self):
         for line in (ONE, PAIR, ("row", (1, 2)), ("ring", (1, 2, 3))):
-            for thing in with_lists(line):
+            for thing in steads(line):
                 self.no(is_line(thing), thing)
 
     def test_forms(self):
@@ -186,7 +137,7 @@ class IsWidths(Told):
 
     def test_a_list_for_the_line(self):
         for line in (ONE, TWO, PAIR):
-            for stead in with_lists(line):
+            for stead in steads(line):
                 for widths in some_widths(line):
                     self.yes(is_widths(stead, widths))
                     self.no(is_widths(stead, list(widths)))
@@ -237,7 +188,7 @@ class IsStanding(Told):
 
     def test_a_list_for_the_line(self):
         for line in (ONE, TWO, PAIR):
-            for stead in with_lists(line):
+            for stead in steads(line):
                 for standing in some_standings(line):
                     self.yes(is_standing(stead, standing))
                     self.no(is_standing(stead, list(standing)))
@@ -265,7 +216,7 @@ class Gates(Told):
     def test_by_name_and_of_lists(self):
         self.told(gates(line=TWO), 3)
         for line, count in ((ONE, 2), (TWO, 3), (PAIR, 2)):
-            for stead in with_lists(line):
+            for stead in steads(line):
                 self.told(gates(stead), count)
 
 
@@ -288,7 +239,7 @@ class BareAndFull(Told):
         self.told(bare(line=TWO), (0, 0))
         self.told(full(line=TWO), (3, 5))
         for line in (ONE, TWO, PAIR):
-            for stead in with_lists(line):
+            for stead in steads(line):
                 self.told(bare(stead), (0,) * len(line[1]))
                 self.told(full(stead), line[1])
 
@@ -319,7 +270,7 @@ class Lacking(Told):
     def test_by_name_and_of_lists(self):
         self.told(lacking(line=TWO, standing=(3, 1)), (0, 4))
         self.told(lacking(standing=(3, 1), line=TWO), (0, 4))
-        for line in [TWO] + with_lists(TWO):
+        for line in [TWO] + steads(TWO):
             self.told(lacking(line, [3, 1]), (0, 4))
             self.told(lacking(line, (3, 1)), (0, 4))
 
@@ -341,7 +292,7 @@ class TurnedLine(Told):
     def test_by_name_and_of_lists(self):
         self.told(turned_line(line=TWO), ("row", (5, 3)))
         for line in (ONE, TWO, PAIR):
-            for stead in with_lists(line):
+            for stead in steads(line):
                 self.told(turned_line(stead), (line[0], line[1][::-1]))
 
 
@@ -372,7 +323,7 @@ class Turned(Told):
     def test_by_name_and_of_lists(self):
         self.told(turned(line=TWO, standing=(3, 4)), (4, 3))
         self.told(turned(standing=(3, 4), line=TWO), (4, 3))
-        for line in [TWO] + with_lists(TWO):
+        for line in [TWO] + steads(TWO):
             self.told(turned(line, [3, 4]), (4, 3))
             self.told(turned(line, (3, 4)), (4, 3))
 
@@ -410,10 +361,10 @@ class TurnedWidths(Told):
     def test_by_name_and_of_lists(self):
         self.told(turned_widths(line=TWO, widths=(7, None, 9)), (9, None, 7))
         self.told(turned_widths(widths=(7, 8), line=PAIR), (7, 8))
-        for line in [TWO] + with_lists(TWO):
+        for line in [TWO] + steads(TWO):
             self.told(turned_widths(line, [7, None, 9]), (9, None, 7))
             self.told(turned_widths(line, (7, None, 9)), (9, None, 7))
-        for line in with_lists(("ring", (1, 2, 3))):
+        for line in steads(("ring", (1, 2, 3))):
             self.told(turned_widths(line, [7, 8, 9]), (7, 9, 8))
             self.told(turned_widths(line, (7, 8, 9)), (7, 9, 8))
 

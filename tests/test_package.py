@@ -26,6 +26,9 @@ INTERFACE = {
     "lines": (
         "is_line gates is_widths is_standing bare full lacking turned_line turned turned_widths"
     ),
+    "beats": "moved beat beats contrary",
+    "runs": "led taken_back",
+    "turns": "is_turns joined beats_in net back_turns forgotten is_forgotten so_often forgets",
 }
 
 
@@ -43,6 +46,12 @@ def nodes():
 
 def where(path, node):
     return f"{path.name}:{node.lineno}"
+
+
+def names_from_elsewhere(tree):
+    """The names that a file imports, and those of its classes: nothing within a function may be called so."""
+    imported = [name.asname or name.name for node in tree.body if isinstance(node, ast.ImportFrom) for name in node.names]
+    return imported + [node.name for node in tree.body if isinstance(node, ast.ClassDef)]
 
 
 def bound_names(statement):
@@ -104,6 +113,55 @@ class Package(unittest.TestCase):
             if isinstance(node, ast.Constant):
                 self.assertNotIsInstance(node.value, (float, complex), where(path, node))
                 self.assertNotIn("%", str(node.value), where(path, node))
+
+    def test_nothing_in_a_function_is_called_as_an_import(self):
+        for path, tree in trees():
+            taken = names_from_elsewhere(tree)
+            self.assertEqual(len(taken), len(set(taken)), path.name)
+            for node in ast.walk(tree):
+                if isinstance(node, ast.Name) and isinstance(node.ctx, ast.Store):
+                    self.assertNotIn(node.id, taken, where(path, node))
+                if isinstance(node, ast.arg):
+                    self.assertNotIn(node.arg, taken, where(path, node))
+
+    def test_imports_name_the_file_that_defines(self):
+        for path, tree in trees():
+            for node in tree.body:
+                if isinstance(node, ast.ImportFrom):
+                    source = ast.parse((FOLDER / f"{node.module.split('.')[1]}.py").read_text("ascii"))
+                    defined = [bound for statement in source.body for bound in bound_names(statement)]
+                    for name in node.names:
+                        self.assertIn(name.name, defined, where(path, node))
+                        self.assertIsNone(name.asname, where(path, node))
+
+    def test_every_import_is_used(self):
+        for path, tree in trees():
+            used = [node.id for node in ast.walk(tree) if isinstance(node, ast.Name)]
+            for name in names_from_elsewhere(tree):
+                if not any(isinstance(node, ast.ClassDef) and node.name == name for node in tree.body):
+                    self.assertIn(name, used, path.name)
+
+    def test_no_name_is_a_method_and_an_attribute(self):
+        methods = [
+            part.name for _, node in nodes() if isinstance(node, ast.ClassDef)
+            for part in node.body if isinstance(part, ast.FunctionDef)
+        ]
+        for path, node in nodes():
+            if isinstance(node, ast.Attribute) and isinstance(node.ctx, ast.Store):
+                self.assertNotIn(node.attr, methods, where(path, node))
+
+    def test_no_sign_or_statement_that_is_barred(self):
+        barred = (
+            ast.GeneratorExp, ast.Div, ast.Global, ast.Set, ast.SetComp, ast.Try, ast.AsyncFunctionDef, ast.Await,
+            ast.JoinedStr, ast.Lambda, ast.AnnAssign,
+        )
+        for path, node in nodes():
+            # Some of these are allowed in places; so far nothing needs them.
+            self.assertNotIsInstance(node, barred, path.name)
+            if isinstance(node, ast.Compare):
+                for sign, other in zip(node.ops, node.comparators):
+                    if isinstance(sign, (ast.Is, ast.IsNot)):
+                        self.assertIsInstance(other, ast.Constant, where(path, node))
 
     def test_interface_is_defined_in_its_own_file(self):
         for name, words in INTERFACE.items():
