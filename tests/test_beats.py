@@ -165,7 +165,10 @@ class Beats(Told):
             beats(("row", (2, 2, 2)), (None,) * 4, (2, 2, 2), "forth", 4),
             [(2, 2, 2), (2, 2, 0), (2, 0, 2), (0, 2, 0), (2, 0, 2)],
         )
-        self.told(beats(("ring", (1, 1, 1)), (None,) * 3, (1, 0, 0), "back", 3), [(1, 0, 0), (0, 0, 1), (0, 1, 0), (1, 0, 0)])
+        self.told(
+            beats(("ring", (1, 1, 1)), (None,) * 3, (1, 0, 0), "back", 3),
+            [(1, 0, 0), (0, 0, 1), (0, 1, 0), (1, 0, 0)],
+        )
 
     def test_by_hand(self):
         for line, widths, standing in some_cases(23, 100, 8, 9):

@@ -29,6 +29,13 @@ INTERFACE = {
     "beats": "moved beat beats contrary",
     "runs": "led taken_back",
     "turns": "is_turns joined beats_in net back_turns forgotten is_forgotten so_often forgets",
+    "walks": "cost price least_walk shows_count",
+    "tables": "Table",
+    "far": "counts far far_turns when",
+    "been": "is_behind had raised depth",
+}
+METHODS = {
+    ("tables", "Table"): "__init__ steps price counts then led led_back __eq__",
 }
 
 
@@ -50,7 +57,8 @@ def where(path, node):
 
 def names_from_elsewhere(tree):
     """The names that a file imports, and those of its classes: nothing within a function may be called so."""
-    imported = [name.asname or name.name for node in tree.body if isinstance(node, ast.ImportFrom) for name in node.names]
+    imports = [node for node in tree.body if isinstance(node, ast.ImportFrom)]
+    imported = [name.asname or name.name for node in imports for name in node.names]
     return imported + [node.name for node in tree.body if isinstance(node, ast.ClassDef)]
 
 
@@ -170,6 +178,27 @@ class Package(unittest.TestCase):
             for word in words.split():
                 with self.subTest(f"{name}.{word}"):
                     self.assertEqual(defined.count(word), 1)
+
+    def test_methods_stand_in_the_class_itself(self):
+        for (name, made), words in METHODS.items():
+            tree = ast.parse((FOLDER / f"{name}.py").read_text("ascii"))
+            body = [node for node in tree.body if isinstance(node, ast.ClassDef) and node.name == made][0].body
+            defined = [part.name for part in body if isinstance(part, ast.FunctionDef)]
+            for word in words.split():
+                with self.subTest(f"{made}.{word}"):
+                    self.assertEqual(defined.count(word), 1)
+
+    def test_no_two_files_import_from_each_other(self):
+        straight = {
+            path.stem: {node.module.split(".")[1] for node in tree.body if isinstance(node, ast.ImportFrom)}
+            for path, tree in trees()
+        }
+        left = dict(straight)
+        while left:
+            free = [name for name, wanted in left.items() if not wanted & set(left)]
+            self.assertNotEqual(free, [], sorted(left))
+            for name in free:
+                del left[name]
 
 
 if __name__ == "__main__":
