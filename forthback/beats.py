@@ -43,6 +43,10 @@ def led_to(standing, counts):
     return tuple([held + counts[at] - counts[(at + 1) % many] for at, held in enumerate(standing)])
 
 
+def added(counts, more):
+    return tuple([count + one for count, one in zip(counts, more)])
+
+
 def beat(line, widths, standing, way):
     return led_to(standing, beat_counts(line, widths, standing, way))
 

@@ -28,18 +28,23 @@ def far_turns(line, widths, standing, turns):
 
 
 def when(line, widths, standing, gate, many):
-    if many <= 0:
+    return beats_until(line, widths, standing, lambda told: told[gate] >= many)
+
+
+def beats_until(line, widths, standing, is_so):
+    """The least number of beats forth behind which the counts are so, once and for good; None where they never are."""
+    if is_so(noughts(line)):
         return 0
-    grids = grids_until(line, widths, standing, gate, many)
-    return None if grids is None else beats_short(grids, gate, many) + 1
+    grids = grids_until(line, widths, standing, is_so)
+    return None if grids is None else beats_short(grids, is_so) + 1
 
 
-def grids_until(line, widths, standing, gate, many):
-    """The grids of 1, 2, 4, .. steps, to the first behind whose beats the count is many; None where none is."""
+def grids_until(line, widths, standing, is_so):
+    """The grids of 1, 2, 4, .. steps, to the first behind whose beats the counts are so; None where none is."""
     one = grid_of_one(line, widths, standing)
     grids = [one]
     told = led_by(one, noughts(line))
-    while told[gate] < many:
+    while not is_so(told):
         # A beat that moves nothing is followed by such alone; as long as each moves something, each gate's count grows.
         if led_by(one, told) == told:
             return None
@@ -48,13 +53,13 @@ def grids_until(line, widths, standing, gate, many):
     return grids
 
 
-def beats_short(grids, gate, many):
-    """The greatest number of beats behind which the gate's count is less than many."""
+def beats_short(grids, is_so):
+    """The greatest number of beats behind which the counts aren't so yet."""
     beats = 0
     told = [0] * len(grids[0])
     for at, grid in reversed(list(enumerate(grids))):
         further = led_by(grid, told)
-        if further[gate] < many:
+        if not is_so(further):
             told = further
             beats += 1 << at
     return beats

@@ -72,3 +72,8 @@ def turned_widths(line, widths):
         return about
     # Turned about, gate 0 of a ring would come to be the last: it goes ahead again.
     return about[-1:] + about[:-1]
+
+
+def replaced(values, at, value):
+    """The tuple of these values, but for the one at that place."""
+    return tuple([value if place == at else kept for place, kept in enumerate(values)])

@@ -1,6 +1,6 @@
 """Runs: beats one behind the other, each by its own widths."""
 
-from forthback.beats import beat_counts, contrary, led_to
+from forthback.beats import added, beat_counts, contrary, led_to
 from forthback.lines import gates
 
 
@@ -10,7 +10,7 @@ def led(line, standing, run):
     for way, widths in run:
         more = beat_counts(line, widths, held, way)
         held = led_to(held, more)
-        counts = tuple([count + one for count, one in zip(counts, more)])
+        counts = added(counts, more)
     return held, counts
 
 
