@@ -36,9 +36,17 @@ INTERFACE = {
     "pace": "pace slow_round heights shows_pace best_ring",
     "apart": "between apart is_further lesser greater with_more",
     "rest": "rest rests_when rest_counts is_resting",
+    "who": "lane where who goes_by",
+    "yard": "Yard",
+    "texts": "line_text line_in turns_text turns_in",
+    "desk": "answers",
 }
 METHODS = {
     ("tables", "Table"): "__init__ steps price counts then led led_back __eq__",
+    ("yard", "Yard"): (
+        "__init__ go put take widen turn undo do line widths standing counts came deeds as_of twin marks "
+        "__len__ __eq__ __str__"
+    ),
 }
 
 
@@ -163,8 +171,8 @@ class Package(unittest.TestCase):
 
     def test_no_sign_or_statement_that_is_barred(self):
         barred = (
-            ast.GeneratorExp, ast.Div, ast.Global, ast.Set, ast.SetComp, ast.Try, ast.AsyncFunctionDef, ast.Await,
-            ast.JoinedStr, ast.AnnAssign,
+            ast.GeneratorExp, ast.Div, ast.Global, ast.Set, ast.SetComp, ast.AsyncFunctionDef, ast.Await,
+            ast.AnnAssign,
         )
         for path, node in nodes():
             # Some of these are allowed in places; so far nothing needs them.
@@ -173,6 +181,34 @@ class Package(unittest.TestCase):
                 for sign, other in zip(node.ops, node.comparators):
                     if isinstance(sign, (ast.Is, ast.IsNot)):
                         self.assertIsInstance(other, ast.Constant, where(path, node))
+
+    def test_only_own_errors_are_caught(self):
+        for path, node in nodes():
+            if isinstance(node, ast.ExceptHandler):
+                caught = node.type.elts if isinstance(node.type, ast.Tuple) else [node.type]
+                for one in caught:
+                    self.assertIn(one.id, INTERFACE["errors"].split(), where(path, node))
+                self.assertIsNone(node.name, where(path, node))
+            if isinstance(node, ast.Try):
+                self.assertEqual(node.finalbody, [], where(path, node))
+
+    def test_errors_are_made_where_they_are_raised(self):
+        for path, node in nodes():
+            if isinstance(node, ast.Raise) and node.exc is not None:
+                self.assertIsInstance(node.exc, ast.Call, where(path, node))
+                self.assertIn(node.exc.func.id, INTERFACE["errors"].split(), where(path, node))
+
+    def test_texts_made_of_parts_have_no_formats(self):
+        for path, node in nodes():
+            if isinstance(node, ast.FormattedValue):
+                self.assertIsNone(node.format_spec, where(path, node))
+                self.assertEqual(node.conversion, -1, where(path, node))
+                self.assertIsInstance(node.value, ast.Name, where(path, node))
+
+    def test_what_a_text_or_a_length_is_told_by_assigns_nothing(self):
+        for path, node in nodes():
+            if isinstance(node, ast.FunctionDef) and node.name in ("__eq__", "__len__", "__str__", "__repr__"):
+                self.assertEqual([kind.__class__ for kind in node.body], [ast.Return], where(path, node))
 
     def test_one_lambda_in_a_line_at_most(self):
         for path in files():
